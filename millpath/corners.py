@@ -1,0 +1,20 @@
+"""Corners, and the eight directions between them [3]."""
+
+STEPS = ((1, 0), (1, 1), (0, 1), (-1, 1), (-1, 0), (-1, -1), (0, -1), (1, -1))
+
+
+def stepped(corner, direction, many):
+    """The corner that lies many steps on from a corner."""
+    step = STEPS[direction]
+    return (corner[0] + step[0] * many, corner[1] + step[1] * many)
+
+
+def straight(one, other):
+    """The pair (direction, many) of the steps from one to other; None where there is none."""
+    many = max(abs(other[0] - one[0]), abs(other[1] - one[1]))
+    if many == 0:
+        return None
+    for direction in range(len(STEPS)):
+        if stepped(one, direction, many) == tuple(other):
+            return (direction, many)
+    return None
