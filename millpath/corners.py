@@ -1,6 +1,7 @@
-"""Corners, and the eight directions between them [3]."""
+"""Corners, the eight directions between them, and the quarters of cells [3]."""
 
 STEPS = ((1, 0), (1, 1), (0, 1), (-1, 1), (-1, 0), (-1, -1), (0, -1), (1, -1))
+INNER = ((3, 2), (2, 3), (1, 2), (2, 1))
 
 
 def stepped(corner, direction, many):
@@ -18,3 +19,9 @@ def straight(one, other):
         if stepped(one, direction, many) == tuple(other):
             return (direction, many)
     return None
+
+
+def inner_point(quarter):
+    """A point within a quarter and on no edge of any, told four times so that it is whole."""
+    inner = INNER[quarter[2]]
+    return (4 * quarter[0] + inner[0], 4 * quarter[1] + inner[1])

@@ -1,6 +1,7 @@
 """Tools, and the octos that they cut at a corner and along straight ways [6]."""
 
 from millpath.kinds import are_numbers
+from millpath.octos import added, moved, octo_of
 
 
 def is_tool(thing):
@@ -14,20 +15,12 @@ def mark_of(tool, corner):
     """The octo that a tool cuts at a corner."""
     r = tool[0]
     both = tool[0] + tool[1]
-    x = corner[0]
-    y = corner[1]
-    return (x - r, x + r, y - r, y + r, x + y - both, x + y + both, x - y - both, x - y + both)
+    return moved((-r, r, -r, r, -both, both, -both, both), corner)
 
 
 def swept(tool, one, other):
     """The octo of the marks between two corners that are one or stand straight."""
-    first = mark_of(tool, one)
-    last = mark_of(tool, other)
-    bounds = []
-    for at in range(0, 8, 2):
-        bounds.append(min(first[at], last[at]))
-        bounds.append(max(first[at + 1], last[at + 1]))
-    return tuple(bounds)
+    return added(mark_of(tool, (0, 0)), octo_of([one, other]))
 
 
 def half_of(tool):
