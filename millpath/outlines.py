@@ -95,12 +95,21 @@ def shape(outline, islands):
     """The region within an outline and within none of the islands."""
     region = []
     for x in range(min([corner[0] for corner in outline]), max([corner[0] for corner in outline])):
-        shore = lines_over(outline, x)
-        holes = [lines_over(island, x) for island in islands]
-        for quarter in quarters_between(shore, x):
-            if not any([is_between(hole, quarter) for hole in holes]):
-                region.append(quarter)
-    return region
+        region.extend(quarters_between(lines_over(outline, x), x))
+    return outside(region, islands)
+
+
+def outside(region, outlines):
+    """The region of the quarters of a region that lie within none of some outlines."""
+    found = []
+    lines_at = {}
+    for quarter in sorted([tuple(quarter) for quarter in region]):
+        x = quarter[0]
+        if x not in lines_at:
+            lines_at[x] = [lines_over(outline, x) for outline in outlines]
+        if not any([is_between(lines, quarter) for lines in lines_at[x]]):
+            found.append(quarter)
+    return found
 
 
 def lines_over(outline, x):
