@@ -14,14 +14,19 @@ def centres(region, tool):
 
 def reached(region, tool):
     """The region of all quarters of a tool's marks at its centres."""
-    return sorted(marked(tool, centres(region, tool)))
+    return sorted(reached_in(region, tool))
+
+
+def reached_in(region, tool):
+    """A dict of the quarters that a tool reaches of a region."""
+    return marked(tool, centres(region, tool))
 
 
 def left_by(region, tools):
     """The region of the quarters of a region that none of some tools reaches."""
     gone = {}
     for tool in tools:
-        gone.update(marked(tool, centres(region, tool)))
+        gone.update(reached_in(region, tool))
     return without(region, gone)
 
 

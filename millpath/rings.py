@@ -2,7 +2,7 @@
 
 from millpath.corners import STEPS
 from millpath.marks import marked
-from millpath.reach import centres
+from millpath.reach import reached_in
 
 
 def depths_in(points):
@@ -44,4 +44,4 @@ def rings(points, first, width):
 
 def is_covering(region, tool, points):
     """Whether the marks at some corners hold all that a tool reaches of a region, and no more."""
-    return marked(tool, points) == marked(tool, centres(region, tool))
+    return marked(tool, points) == reached_in(region, tool)

@@ -138,3 +138,143 @@ def lists_in(thing):
         for part in thing:
             found += lists_in(part)
     return found
+
+
+def plain_way_in(run, top, deep, slope):
+    """The places of a way in, walked step by step."""
+    run = [tuple(corner) for corner in run]
+    if len(run) == 1:
+        return [run[0] + (z,) for z in range(top, deep + 1)]
+    told, at, forth, step = [run[0] + (top,)], 0, True, 0
+    while told[-1][2] < deep:
+        if at in (0, len(run) - 1):
+            forth = at == 0
+        at += 1 if forth else -1
+        step += 1
+        told.append(run[at] + (top + step // slope,))
+    while at > 0:
+        at -= 1
+        told.append(run[at] + (deep,))
+    return told
+
+
+def lie(direction, grain):
+    turn = min((direction - grain) % 8, (grain - direction) % 8)
+    return "with" if turn <= 1 else "across" if turn == 2 else "against"
+
+
+def plain_pieces(run, grain):
+    """The pieces of a run, each as long as it may be."""
+    told, begin = [], 0
+    while True:
+        end, lies = begin, set()
+        while end < len(run) - 1:
+            more = lies | {lie(step_between(run[end], run[end + 1]), grain)}
+            if {"with", "against"} <= more:
+                break
+            end, lies = end + 1, more
+        piece = run[begin:end + 1]
+        told.append(piece[::-1] if "against" in lies else piece)
+        if end == len(run) - 1:
+            return told
+        begin = end
+
+
+class PlainMaker:
+    """Orders as the document tells them, from plain answers alone."""
+
+    def __init__(self, tools, clamps):
+        self.tools, self.clamps = tools, clamps
+        self.held = set().union(*[quarters_inside(clamp) for clamp in clamps])
+        self.orders, self.taken, self.corner = [], None, (0, 0)
+
+    def free(self, region):
+        return sorted(set(map(tuple, region)) - self.held)
+
+    def cuts(self, ways, deep, n):
+        tool = self.tools[n]
+        depths = [0] + [min(deep, tool[3] * at) for at in range(1, deep + 1) if tool[3] * (at - 1) < deep]
+        for top, z in zip(depths, depths[1:]):
+            for way in ways:
+                if self.taken != n:
+                    self.orders.append(("take", n))
+                    self.taken = n
+                how = plain_over(tool, self.corner, way[0], self.clamps)
+                self.orders.append(("over", how) + way[0])
+                places = plain_way_in(way, top, z, tool[4]) + [corner + (z,) for corner in way[1:]]
+                self.orders.append(("cut", tuple(places)))
+                self.corner = way[-1]
+
+    def clear(self, region, deep, n, width, first, grain):
+        depths = plain_depths(plain_centres(self.free(region), self.tools[n]))
+        ways, deepest = [], max([depth for corner, depth in depths], default=-1)
+        for at in range(first, deepest + 1, width):
+            ways += plain_runs([corner for corner, depth in depths if depth == at])
+        if first > 0:
+            for run in plain_runs([corner for corner, depth in depths if depth == 0]):
+                ways += plain_pieces(run, grain)
+        self.cuts(ways, deep, n)
+
+    def rest(self, region, gone, deep, n, grain):
+        wanted, ways = set(map(tuple, region)) - set(map(tuple, gone)), []
+        points = [corner for corner in plain_centres(self.free(region), self.tools[n])
+                  if marks_laid(self.tools[n], [corner]) & wanted]
+        for run in plain_runs(points):
+            ways += plain_pieces(run, grain)
+        self.cuts(ways, deep, n)
+
+
+def plain_cleared(region, deep, tools, clamps, plan):
+    numbers, width, first, grain = plan
+    maker = PlainMaker(tools, clamps)
+    maker.clear(region, deep, numbers[0], width, first, grain)
+    gone = plain_reached(maker.free(region), tools[numbers[0]])
+    for n in numbers[1:]:
+        maker.rest(region, sorted(gone), deep, n, grain)
+        gone |= plain_reached(maker.free(region), tools[n])
+    return maker.orders, sorted(set(region) - gone)
+
+
+class Refused(Exception):
+    """A program did what no program may."""
+
+
+def refuse_if(wrong, words):
+    if wrong:
+        raise Refused(words)
+
+
+def played(program, tools, clamps, pocket, deep):
+    """What is away in each layer behind a program; Refused where it cuts what stays, meets a clamp or bites."""
+    held, may = set().union(*[quarters_inside(clamp) for clamp in clamps]), set(pocket)
+    away, tool, corner = [set() for _ in range(deep)], None, (0, 0)
+    for order in program:
+        if order[0] == "take":
+            tool = tools[order[1]]
+            near = quarters_of(mark(tool, (0, 0)))
+        elif order[0] == "over":
+            way = plain_way(corner, order[2:])
+            refuse_if(order[1] == "low" and marks_laid(tool, way) & held, order)
+            corner = order[2:]
+        else:
+            places = order[1]
+            refuse_if(places[0][:2] != corner, "the first place is elsewhere")
+            for one, other in zip(places, places[1:]):
+                refuse_if(not may_follow(one, other), (one, other))
+            for x, y, z in places:
+                refuse_if(not 0 <= z <= deep, z)
+                there = moved_quarters(near, x, y)
+                refuse_if(there & held, "a clamp is met")
+                refuse_if(any(not there <= away[layer] for layer in range(z - tool[3])), "bites")
+                refuse_if(z > 0 and not there <= may, "what stays is cut")
+                for layer in range(z):
+                    away[layer] |= there
+            corner = places[-1][:2]
+    return away
+
+
+def may_follow(one, other):
+    """Whether a place may come behind another one in a cut."""
+    if one[:2] == other[:2]:
+        return other[2] == one[2] + 1
+    return step_between(one[:2], other[:2]) is not None and 0 <= other[2] <= one[2] + 1

@@ -48,6 +48,17 @@ def bound_names(tree):
             yield node.id
 
 
+def class_names(tree):
+    """The methods of a file's classes, and the values that they give themselves."""
+    methods, values = set(), set()
+    for node in ast.walk(tree):
+        if isinstance(node, ast.ClassDef):
+            methods |= {part.name for part in node.body if isinstance(part, ast.FunctionDef)}
+        elif isinstance(node, ast.Attribute) and isinstance(node.ctx, ast.Store):
+            values.add(node.attr)
+    return methods, values
+
+
 def trees():
     return [(name, ast.parse(text)) for name, text in sources().items()]
 
@@ -112,8 +123,36 @@ class Language(unittest.TestCase):
                 if isinstance(node, ast.BinOp) and isinstance(node.op, ast.Pow):
                     self.assertIsInstance(node.right, ast.Constant, where)
 
+    def test_methods_and_values_of_classes(self):
+        methods = set().union(*[class_names(tree)[0] for name, tree in trees()])
+        values = set().union(*[class_names(tree)[1] for name, tree in trees()])
+        pythons = set().union(*[dir(kind) for kind in (str, int, list, dict, set, bytes, tuple)])
+        special = {"__init__", "__eq__", "__repr__", "__str__", "__len__"}
+        self.assertFalse(methods & values)
+        self.assertFalse((methods - special - METHODS - {"add", "discard"}) & pythons)
+        self.assertFalse(values & pythons)
+        self.assertFalse((methods | values) & {"register", "mro", "elements", "open", "input", "args"})
+        for name, tree in trees():
+            for node in ast.walk(tree):
+                if isinstance(node, ast.ClassDef):
+                    self.assertTrue(node in tree.body and len(node.bases) <= 1, (name, node.name))
+                    bodies = [part for part in node.body if not isinstance(part, ast.FunctionDef)]
+                    self.assertTrue(all(isinstance(part, ast.Expr) for part in bodies), (name, node.name))
+                    self.assertEqual(len({part.name for part in node.body if part not in bodies}),
+                                     len(node.body) - len(bodies), (name, node.name))
+
+    def test_no_local_is_called_like_an_import(self):
+        for name, tree in trees():
+            froms = [node for node in tree.body if isinstance(node, ast.ImportFrom)]
+            drawn = {alias.name for node in froms for alias in node.names}
+            self.assertFalse(drawn & set(bound_names(tree)), name)
+            self.assertTrue(all(alias.asname is None for node in froms for alias in node.names), name)
+            used = {node.id for node in ast.walk(tree) if isinstance(node, ast.Name)}
+            self.assertLessEqual(drawn, used, name)
+
     def test_names(self):
         own = set(dir(builtins))
+        free = METHODS.union(*[part for name, tree in trees() for part in class_names(tree)])
         for name, tree in trees():
             for bound in bound_names(tree):
                 self.assertRegex(bound, r"^[A-Za-z][A-Za-z0-9_]*$|^__(init|eq|repr|str|len)__$", name)
@@ -122,16 +161,20 @@ class Language(unittest.TestCase):
                 if isinstance(node, ast.Name) and node.id in own:
                     self.assertIn(node.id, CALLED, (name, node.lineno))
                 if isinstance(node, ast.Attribute):
-                    self.assertIn(node.attr, METHODS, (name, node.lineno))
+                    self.assertIn(node.attr, free, (name, node.lineno))
 
     def test_sets_and_walks_are_used_on_the_spot(self):
         walks = ("zip", "enumerate", "reversed", "range")
         for name, tree in trees():
             parents = parents_of(tree)
             for node in ast.walk(tree):
-                if not isinstance(node, ast.Call) or not isinstance(node.func, ast.Name):
+                if not isinstance(node, ast.Call) or not isinstance(node.func, (ast.Name, ast.Attribute)):
                     continue
                 above = parents[node]
+                if isinstance(node.func, ast.Attribute):
+                    if node.func.attr in ("items", "keys", "values"):
+                        self.assertIsInstance(above, (ast.For, ast.comprehension), (name, node.lineno))
+                    continue
                 called = above.func.id if isinstance(above, ast.Call) and isinstance(above.func, ast.Name) else None
                 if node.func.id == "set":
                     self.assertTrue(called in ("sorted", "len") and not above.keywords, (name, node.lineno))
