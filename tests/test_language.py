@@ -141,6 +141,22 @@ class Language(unittest.TestCase):
                     self.assertEqual(len({part.name for part in node.body if part not in bodies}),
                                      len(node.body) - len(bodies), (name, node.name))
 
+    def test_errors_are_own_made_on_the_spot_and_taken_by_name(self):
+        own = {node.name for name, tree in trees() for node in tree.body if isinstance(node, ast.ClassDef)}
+        for name, tree in trees():
+            for node in ast.walk(tree):
+                where = (name, getattr(node, "lineno", None))
+                if isinstance(node, ast.ClassDef):
+                    self.assertLessEqual({base.id for base in node.bases}, own | {"ValueError"}, where)
+                if isinstance(node, ast.Raise):
+                    self.assertIsInstance(node.exc, ast.Call, where)
+                    self.assertIn(node.exc.func.id, own, where)
+                    self.assertEqual(node.exc.keywords, [], where)
+                if isinstance(node, ast.Try):
+                    self.assertEqual(node.finalbody, [], where)
+                if isinstance(node, ast.ExceptHandler):
+                    self.assertIn(node.type.id, own | {"KeyError"}, where)
+
     def test_no_local_is_called_like_an_import(self):
         for name, tree in trees():
             froms = [node for node in tree.body if isinstance(node, ast.ImportFrom)]
