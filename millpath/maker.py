@@ -2,7 +2,7 @@
 
 from millpath.grain import with_grain
 from millpath.marks import fits, near_quarters, noted
-from millpath.outlines import outside
+from millpath.outlines import corners_of, outside
 from millpath.reach import centres
 from millpath.rings import depths_in, rings
 from millpath.runs import runs
@@ -64,11 +64,6 @@ class Maker:
         places.extend([placed(corner, z) for corner in path[1:]])
         self.orders.append(("cut", tuple(places)))
         self.stand = path[-1]
-
-
-def corners_of(clamp):
-    """A clamp's corners as a list of its own."""
-    return [tuple(corner) for corner in clamp]
 
 
 def inward_paths(points, width, first):

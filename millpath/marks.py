@@ -9,6 +9,13 @@ def near_quarters(tool):
     return quarters_in(mark_of(tool, (0, 0)))
 
 
+def laid(near, corner):
+    """The near quarters, laid about a corner."""
+    x = corner[0]
+    y = corner[1]
+    return [(x + along, y + up, side) for along, up, side in near]
+
+
 def fits(near, corner, there):
     """Whether all near quarters, laid about a corner, are in a dict of quarters."""
     x = corner[0]
@@ -24,10 +31,8 @@ def marked(tool, corners):
     near = near_quarters(tool)
     there = {}
     for corner in corners:
-        x = corner[0]
-        y = corner[1]
-        for along, up, side in near:
-            there[(x + along, y + up, side)] = True
+        for quarter in laid(near, corner):
+            there[quarter] = True
     return there
 
 

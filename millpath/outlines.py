@@ -13,9 +13,14 @@ def is_outline(thing):
     return goes_straight(edges) and not goes_back(edges) and not is_touching(edges)
 
 
+def corners_of(outline):
+    """An outline's corners as a list of its own."""
+    return [tuple(corner) for corner in outline]
+
+
 def edges_of(outline):
     """The pairs of corners that lead to one another, the last one to the first."""
-    corners = [tuple(corner) for corner in outline]
+    corners = corners_of(outline)
     return list(zip(corners, corners[1:] + corners[:1]))
 
 
